@@ -3,6 +3,7 @@ package fix
 import (
 	"bytes"
 	"errors"
+	"maps"
 	"math"
 	"math/rand"
 	"reflect"
@@ -476,8 +477,7 @@ func TestX2EachTagOfEachKind(t *testing.T) {
 	for kind := 1; kind <= 17; kind++ {
 		has := tagsOf(kind)
 		for tag := 1; tag <= 9999; tag++ {
-			// All tags are asked of some kinds, those that mean something to somebody of all.
-			if tag >= 8 && tag <= 10 || tag > 600 && kind%6 != 0 {
+			if tag >= 8 && tag <= 10 { // the frame's own
 				continue
 			}
 			frame := frameOf(t, []api.Field{{Tag: 35, Value: typeOf(kind)}, {Tag: tag, Value: "~"}})
@@ -504,22 +504,30 @@ func TestX2EachValueOfEachField(t *testing.T) {
 	edges, shorts := edgeValues(), shortValues()
 	for _, m := range written() {
 		l := chapterFields(m)
-		for at := range l {
+		for _, tag := range slices.Sorted(maps.Keys(tagsOf(m.Kind))) {
 			for _, v := range edges {
-				spoilt := slices.Clone(l)
-				spoilt[at].Value = v
+				spoilt := withValue(l, tag, v)
 				holdAgainstChapter(t, spoilt)
 				holdAgainstChapter(t, append(spoilt, behind))
 			}
 			for _, v := range shorts {
 				if m.Kind == api.NewOrder {
-					spoilt := slices.Clone(l)
-					spoilt[at].Value = v
-					holdAgainstChapter(t, spoilt)
+					holdAgainstChapter(t, withValue(l, tag, v))
 				}
 			}
 		}
 	}
+}
+
+// withValue gives the fields with another value in one; it comes behind the others, if it was not there.
+func withValue(l []api.Field, tag int, value string) []api.Field {
+	out := slices.Clone(l)
+	at := slices.IndexFunc(out, func(f api.Field) bool { return f.Tag == tag })
+	if at < 0 {
+		return append(out, api.Field{Tag: tag, Value: value})
+	}
+	out[at].Value = value
+	return out
 }
 
 // edgeValues gives what stands at the edges of the forms.

@@ -278,3 +278,35 @@ func TestY6ExecID(t *testing.T) {
 		t.Errorf("the order of which nothing was told: %d", e)
 	}
 }
+
+// TestY6Words: of events as no engine tells them, each field is still the one that the chapter names.
+func TestY6Words(t *testing.T) {
+	w := start(t)
+	a := w.end("F1", framer.Text).logsOn()
+	c := api.Command{Kind: api.DoNew, Owner: 2, Name: "was", O: api.Order{Name: "c", Symbol: "ABC"}}
+	x := api.Event{
+		Symbol: "NOT", Owner: 1, Name: "x", Side: api.Sell, Err: api.ErrLot, Phase: 3, Count: 4,
+		O: api.Order{ID: 7, Name: "y", Account: "Z", Symbol: "XY", Side: api.Buy, Type: api.Limit, Life: api.GTC, Price: -1, Stop: -2, Show: -3, Qty: 5, Done: 6, Least: 2, Until: 20240104, Owner: 2},
+		F: api.Fill{Price: 8, Qty: 9},
+	}
+	want := api.Msg{Kind: api.Execution, ID: "x", OrderID: 7, Account: "Z", Symbol: "XY", Side: api.Sell, Type: api.Limit, Life: api.GTC, Qty: 11, Left: 5, Done: 6}
+	for n, change := range []func(m *api.Msg){
+		func(m *api.Msg) { m.Exec, m.State = 1, 1 },
+		func(m *api.Msg) {
+			m.Exec, m.State, m.OrderID, m.Side, m.Left, m.Reason = 2, 5, 0, api.Buy, 0, int(api.ErrLot)
+		},
+		func(m *api.Msg) { m.Exec, m.State, m.LastPrice, m.LastQty = 3, 2, 8, 9 },
+		func(m *api.Msg) { m.Exec, m.State, m.Left = 4, 4, 0 },
+		func(m *api.Msg) { m.Exec, m.State, m.OrigID = 5, 2, "was" },
+		func(m *api.Msg) { m.Exec, m.State = 6, 2 },
+		func(m *api.Msg) { m.Exec, m.State, m.Left = 7, 6, 0 },
+	} {
+		x.Kind = n + 1
+		w.g.report(c, x)
+		want.ExecID = n + 1
+		a.hears(with(want, change))
+	}
+	x.Kind = api.EvMass
+	w.g.report(c, x)
+	a.hears(api.Msg{Kind: api.MassReport, ID: "x", Symbol: "NOT", Count: 4})
+}
